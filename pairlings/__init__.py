@@ -1,0 +1,1 @@
+"""Pairings of points along a line, their crossings and nestings."""
