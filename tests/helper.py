@@ -70,3 +70,33 @@ def plain_tangles(pairs):
 
 def longest_chain(pairs):
     return max((1 + longest_chain([p for p in pairs if within(p, pair)]) for pair in pairs), default=0)
+
+
+def plain_walk(pairing):
+    """The walk by its words: at an end, the pairs that began ahead of this one and end behind this point."""
+    points, pairs = pairing
+    walk = ["lone"] * points
+    for beginning, end in pairs:
+        walk[beginning] = "open"
+        walk[end] = sum(1 for pair in pairs if pair[0] < beginning and pair[1] > end)
+    return walk
+
+
+def walk_order(walk):
+    return [{"lone": -2, "open": -1}.get(step, step) for step in walk]
+
+
+def open_at(walk, point):
+    """How many pairs are open at a point: those begun ahead of it, less those ended ahead of it."""
+    return sum({"lone": 0, "open": 1}.get(step, -1) for step in walk[:point])
+
+
+def is_walk(steps):
+    for point, step in enumerate(steps):
+        if step not in ("lone", "open") and step not in range(open_at(steps, point)):
+            return False
+    return len(steps) <= 60 and open_at(steps, len(steps)) == 0
+
+
+def plain_note(pairing):
+    return str(pairing[0]) + ":" + "".join(" " + str(first) + "-" + str(last) for first, last in pairing[1])

@@ -25,6 +25,20 @@ class HelperTest(unittest.TestCase):
         self.assertTrue(helper.within((1, 2), (0, 3)))
         self.assertFalse(helper.within((0, 3), (1, 2)) or helper.within((0, 2), (1, 3)))
 
+    def test_plain_walks_and_notes(self):
+        pairing = (6, ((0, 5), (1, 3), (2, 4)))
+        walk = ["open", "open", "open", 1, 1, 0]
+        self.assertEqual(helper.plain_walk(pairing), walk)
+        self.assertEqual([helper.open_at(walk, point) for point in range(7)], [0, 1, 2, 3, 2, 1, 0])
+        self.assertEqual(helper.walk_order(["lone"] + walk), [-2, -1, -1, -1, 1, 1, 0])
+        self.assertEqual(helper.plain_note(pairing), "6: 0-5 1-3 2-4")
+
+    def test_which_lists_are_walks(self):
+        for walk in ([], ["lone"], ["open", 0], ["open", "lone", "open", 1, 0], ["lone"] * 60):
+            self.assertTrue(helper.is_walk(walk))
+        for steps in (["open"], [0], ["open", 1], ["open", -1], ["x"], ["open", 0, 0], ["lone"] * 61):
+            self.assertFalse(helper.is_walk(steps))
+
 
 if __name__ == "__main__":
     unittest.main()

@@ -16,6 +16,21 @@ FUNCTIONS = {
         "longest_nest": ["pairing"],
         "layers": ["pairing"],
     },
+    "pairlings.walks": {
+        "walk_of": ["pairing"],
+        "pairing_of": ["walk"],
+        "turned": ["pairing"],
+    },
+    "pairlings.counting": {
+        "how_many": ["points"],
+        "how_many_with": ["points", "pairs", "crossings", "nestings"],
+        "told": ["points", "number"],
+        "number_of": ["pairing"],
+    },
+    "pairlings.notes": {
+        "shown": ["pairing"],
+        "read": ["text"],
+    },
 }
 CLASSES = {
     "pairlings.errors": ["PairError", "NoPairing", "NoWalk", "NoNumber", "TooMany", "BadNote"],

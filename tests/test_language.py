@@ -31,6 +31,7 @@ METHODS = """append clear copy count endswith extend find get index insert isaln
 WORDS = """type typing typing_extensions enum Enum IntEnum StrEnum Flag IntFlag Generic Protocol ABC ABCMeta
     namedtuple NamedTuple TypedDict TYPE_CHECKING abstractmethod""".split()
 WITHIN_WORDS = ["dataclass", "overload", "contextmanager"]
+NOWHERE = "register mro elements open input version_info with_traceback add_note".split()
 
 
 def faults_of_text(text):
@@ -55,6 +56,28 @@ def faults_of_tree(tree):
         docstring = place == 0 and isinstance(node, ast.Expr) and isinstance(node.value, ast.Constant)
         if not docstring and not isinstance(node, ast.Assign):
             found.append(f"line {node.lineno}: something is done at the top")
+    return found
+
+
+def faults_of_scopes(tree):
+    """Names of a file's top that are bound twice, or that a parameter or local bears though they are no def's."""
+    found = []
+    taken = []
+    for node in tree.body:
+        if isinstance(node, ast.ImportFrom):
+            taken.extend(alias.name for alias in node.names)
+        elif isinstance(node, (ast.FunctionDef, ast.ClassDef)):
+            taken.append(node.name)
+        elif isinstance(node, ast.Assign):
+            taken.extend(target.id for target in node.targets if isinstance(target, ast.Name))
+    if len(set(taken)) < len(taken):
+        found.append("a name is bound twice at the top")
+    for function in [node for node in ast.walk(tree) if isinstance(node, ast.FunctionDef)]:
+        for node in ast.walk(function):
+            stored = node.id if isinstance(node, ast.Name) and isinstance(node.ctx, ast.Store) else None
+            stored = node.arg if isinstance(node, ast.arg) else stored
+            if stored in taken:
+                found.append(f"line {node.lineno}: {stored} is called like a name of the top")
     return found
 
 
@@ -96,6 +119,8 @@ def faults_of_names(node):
     bound = [getattr(node, part, None) for part in ("name", "arg", "attr")]
     bound.append(node.id if isinstance(node, ast.Name) else None)
     for name in bound:
+        if name in NOWHERE:
+            found.append(f"{name} is not used")
         if isinstance(name, str) and name.startswith("_") and not (isinstance(node, ast.FunctionDef)):
             found.append(f"{name} begins with an underscore")
     if isinstance(node, ast.Name) and isinstance(node.ctx, ast.Load):
@@ -111,7 +136,8 @@ def faults_of_names(node):
 
 
 def faults(text):
-    return faults_of_text(text) + faults_of_tree(ast.parse(text))
+    tree = ast.parse(text)
+    return faults_of_text(text) + faults_of_tree(tree) + faults_of_scopes(tree)
 
 
 class LanguageTest(unittest.TestCase):
@@ -131,6 +157,17 @@ class LanguageTest(unittest.TestCase):
         tree = ast.parse((PACKAGE / "__init__.py").read_text(encoding="utf-8"))
         self.assertFalse([node for node in ast.walk(tree) if isinstance(node, (ast.Import, ast.ImportFrom))])
 
+    def test_no_two_files_draw_from_one_another(self):
+        draws = {}
+        for path in sorted(PACKAGE.glob("*.py")):
+            tree = ast.parse(path.read_text(encoding="utf-8"))
+            rows = [node for node in tree.body if isinstance(node, ast.ImportFrom)]
+            draws["pairlings." + path.stem] = {node.module for node in rows}
+        while draws:
+            free = [module for module, drawn in draws.items() if not drawn & set(draws)]
+            self.assertNotEqual(free, [], draws)
+            draws = {module: drawn for module, drawn in draws.items() if module not in free}
+
     def test_faults_are_seen(self):
         for text in (
             "import os", "from os import path", "from . import errors", "from pairlings.errors import *",
@@ -139,6 +176,8 @@ class LanguageTest(unittest.TestCase):
             "def f(id):\n    pass", "def f(a):\n    a.sort()", "_a = 1", "def f(a):\n    return a is 1 + 1",
             "def f(a):\n    assert a", "a = 'type'", "a = '%'", "a = '\u00e9'", "a = 1\t", "a = 1" + " " * 120,
             "def f():\n" + "    pass\n" * 40, "def f(a):\n    with a:\n        pass", "a = [b for c in d for b in c]",
+            "from pairlings.errors import a\ndef f(a):\n    pass", "from pairlings.errors import a\ndef f():\n    a = 1",
+            "a = 1\na = 2", "def f(elements):\n    pass",
         ):
             with self.subTest(text):
                 self.assertNotEqual(faults(text), [])
